@@ -1,6 +1,8 @@
 package slave
 
 import (
+	"slices"
+
 	"calliper/api"
 	"calliper/num"
 	"calliper/sum"
@@ -54,12 +56,12 @@ func (s *Slave) tell(c api.Cmd) []api.Rep {
 // parts goes through bytes, as many at a time as an answer has.
 func parts(b []byte) func(yield func(part []byte) bool) {
 	return func(yield func(part []byte) bool) {
-		for len(b) > 0 {
-			n := min(len(b), api.MaxUp)
-			if !yield(append([]byte{}, b[:n]...)) {
+		for left := b; len(left) > 0; {
+			n := min(len(left), api.MaxUp)
+			if !yield(slices.Clone(left[:n])) {
 				return
 			}
-			b = b[n:]
+			left = left[n:]
 		}
 	}
 }
