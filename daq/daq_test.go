@@ -198,6 +198,10 @@ func TestP11_2AllocOdt(t *testing.T) {
 	ok(t, d, c(api.AllocEntry, 0, 0, 1))
 	no(t, d, api.ErrSeq, c(api.AllocOdt, 2, 0))
 	no(t, d, api.ErrSeq, c(api.AllocOdt, 9, 0))
+	d = fresh(t)
+	ok(t, d, c(api.AllocDaq, 1), c(api.AllocOdt, 0, 1))
+	no(t, d, api.ErrSeq, c(api.AllocOdt, 0, 1))
+	no(t, d, api.ErrSeq, c(api.AllocOdt, 0, 0))
 }
 
 func TestP11_2AllocEntry(t *testing.T) {

@@ -197,6 +197,20 @@ func TestP22_2StepsOneByOne(t *testing.T) {
 	play(t, d, "read 1 0 1, master, bus, tick, tick, tick, master, lose, tick, tick, tick, done", "ok, ok, ok, ok, ok, ok, ok, ok, ok, ok, ok, error 160")
 }
 
+func TestP22_2ThreeTicksTwoTries(t *testing.T) {
+	d := begun(t)
+	play(t, d, "read 1 0 1, master, lose, tick, tick, master, idle, tick, master, idle, lose", "ok, ok, ok, ok, ok, ok, 1, ok, ok, 0, ok")
+	play(t, d, "tick, tick, done, tick, done", "ok, ok, error 162, ok, error 160")
+}
+
+// TestP22_2TwoPages lets commands on pages come from elsewhere.
+func TestP22_2TwoPages(t *testing.T) {
+	d := begun(t)
+	play(t, d, "open 1, go 2, put 207 3 0 1, go 1, read 1 0 8, go 2, done", "ok, ok, ok, ok, ok, ok, ok 0 0 0 0 0 0 0 0")
+	play(t, d, "write 1 0 9, go 2, done, put 207 3 0 2, go 1, read 1 0 1, go 1, done", "ok, ok, ok, ok, ok, ok, ok, ok 9")
+	play(t, d, "app 1 7 6, put 207 2 0 0, go 1, app 1 6 5, read 1 6 2, go 1, done", "ok, ok, ok, ok, ok, ok, ok 7 8")
+}
+
 func TestP22_2Stop(t *testing.T) {
 	d := begun(t)
 	play(t, d, "open 4, go 2, lay 1 2 3 0, go 9, app 0 0 1 2 3, event 1, go 1, sample, event 1, go 1, sample", "ok, ok, ok, ok, ok, ok, ok, error 2, ok, ok, 0 0 1 2 3")

@@ -481,6 +481,37 @@ func TestP15_3FreeDaqLetsGoOfPacketsAndParts(t *testing.T) {
 	r.ram(0, 0)
 }
 
+func TestP15_3OtherListCommandsClearNothing(t *testing.T) {
+	r := on(t, 0)
+	r.lay(1, 1, 1)
+	r.ok(api.SetMode, 0, 1, 1, 1, 0)
+	r.ok(api.StartStop, 0, 1)
+	r.ok(api.StartStop, 1, 1)
+	r.take(0, 77)
+	r.e.Event(0)
+	r.e.Event(0)
+	ask := func(code uint8, b ...byte) {
+		t.Helper()
+		r.take(append([]byte{code + 192}, b...)...)
+		if f, _ := r.e.Send(); f.B[0] != 255 {
+			t.Error(code, f)
+		}
+	}
+	ask(api.SetPtr, 2, 0, 0)
+	ask(api.WriteDaq, 1, 0, 0, 0, 0, 20)
+	ask(api.SetMode, 2, 0, 0, 1, 0)
+	ask(api.StartStop, 1, 0)
+	ask(api.StartStop, 2, 2)
+	ask(api.StartAll, 1)
+	ask(api.StartStop, 2, 0)
+	r.e.Event(1)
+	r.ram(0, 77)
+	r.sends(1, 0)
+	ask(api.StartAll, 0)
+	ask(api.FreeDaq)
+	r.quiet()
+}
+
 func TestP15_3LostAheadOfFreeDaqIsNotTold(t *testing.T) {
 	r := on(t, 0)
 	r.lay(1)

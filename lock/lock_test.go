@@ -260,6 +260,22 @@ func TestP9_4WrongKey(t *testing.T) {
 	}
 }
 
+func TestP9_4NoSeedIsOutBehindAWholeKey(t *testing.T) {
+	for turn := range byte(2) {
+		l := lock.New(1)
+		whole(t, l, 1, draw(8))
+		key := lock.Key(draw(8), 1)
+		key[3] ^= turn
+		give(t, l, key)
+		if e := l.Unlock(0, nil); e != api.ErrSeq || l.Locked() != turn {
+			t.Error(turn, e, l.Locked())
+		}
+		if _, _, e := l.Seed(1, 1, nil); e != api.ErrSeq {
+			t.Error(turn, e)
+		}
+	}
+}
+
 func TestP9_4KeyIsNotKept(t *testing.T) {
 	l := lock.New(1)
 	whole(t, l, 1, draw(8))

@@ -351,6 +351,17 @@ func TestP10_5Locked(t *testing.T) {
 	r.ram(0, 9)
 }
 
+func TestP10_5LockedGoesAheadOfAddresses(t *testing.T) {
+	r := fresh(t, 1)
+	for _, area := range []uint8{0, 1, 9} {
+		r.pos(w(api.SetMta, 1<<20, area))
+		r.neg(down(api.Download, 1, 9), api.ErrLocked)
+		r.neg(down(api.DownMax, -1, 1, 2, 3, 4, 5, 6, 7), api.ErrLocked)
+		r.neg(w(api.Modify, 1, 0), api.ErrLocked)
+		r.mta(area, 1<<20)
+	}
+}
+
 func TestP10_5Download(t *testing.T) {
 	r := fresh(t, 0)
 	r.pos(w(api.SetMta, 4, 0))

@@ -99,6 +99,29 @@ func TestP5_3Remainders(t *testing.T) {
 	}
 }
 
+// divided is what is left of bits, the first of each byte first, divided by a polynomial of 16 bits.
+func divided(b []byte, by uint32) uint32 {
+	r := uint32(0)
+	for _, x := range append([]byte{b[0] ^ 255, b[1] ^ 255}, append(b[2:len(b):len(b)], 0, 0)...) {
+		for bit := 7; bit >= 0; bit-- {
+			r = r<<1 | uint32(x>>bit&1)
+			if r>>16 == 1 {
+				r ^= 1<<16 | by
+			}
+		}
+	}
+	return r
+}
+
+func TestP5_3CittOfTwoBytes(t *testing.T) {
+	for n := range 1 << 16 {
+		b := []byte{byte(n >> 8), byte(n)}
+		if got, _ := sum.Of(api.Citt, b, true); got != divided(b, 0x1021) {
+			t.Fatal(b, got)
+		}
+	}
+}
+
 func TestP5_4SumsAndOrder(t *testing.T) {
 	one := []byte{1, 2, 3, 4, 250, 251, 252, 253, 9, 8, 7, 6}
 	other := []byte{9, 8, 7, 6, 1, 2, 3, 4, 250, 251, 252, 253}
