@@ -24,7 +24,7 @@ func dto(code uint8, b ...byte) api.Rep { return api.Rep{Kind: api.Dto, Code: co
 func none(t *testing.T, g *gather.Gather, l ...api.Rep) {
 	t.Helper()
 	for _, r := range l {
-		if s, ok := g.Take(r); ok || !reflect.DeepEqual(s, api.Sample{}) {
+		if s, ok := g.Take(r); ok || s.List != 0 || s.Lost || len(s.B) != 0 {
 			t.Error(r, s, ok)
 		}
 	}

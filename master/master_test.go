@@ -99,7 +99,7 @@ func (r rig) sampled(list int, lost bool, b ...[]byte) {
 
 func (r rig) noSample() {
 	r.t.Helper()
-	if s, ok := r.m.Sample(); ok || !reflect.DeepEqual(s, api.Sample{}) {
+	if s, ok := r.m.Sample(); ok || s.List != 0 || s.Lost || len(s.B) != 0 {
 		r.t.Error(s)
 	}
 }

@@ -356,7 +356,7 @@ func TestP21_3RoundIsItsSteps(t *testing.T) {
 			y, yc, ye := b.s.Done()
 			s, sok := a.s.Sample()
 			u, uok := b.s.Sample()
-			if !bytes.Equal(x, y) || xc != yc || xe != ye || a.s.Idle() != b.s.Idle() || sok != uok || !reflect.DeepEqual(s, u) {
+			if !bytes.Equal(x, y) || xc != yc || xe != ye || a.s.Idle() != b.s.Idle() || sok != uok || sok && !reflect.DeepEqual(s, u) {
 				t.Fatal(o, x, y, xe, ye, s, u)
 			}
 		}
@@ -385,7 +385,7 @@ func TestP21_3NilSys(t *testing.T) {
 	s.Rounds(3, draw)
 	x, ok := s.Sample()
 	b, code, e := s.Done()
-	if ok || !reflect.DeepEqual(x, api.Sample{}) || len(b) != 0 || code != 0 || e != api.ErrNone || s.Mem() != nil || s.Locked() != 0 || !s.Idle() || s.Step(api.Act{Kind: api.AcBus}) != api.ErrNone || s.Step(api.Act{}) != api.ErrNone {
+	if ok || x.List != 0 || x.Lost || len(x.B) != 0 || len(b) != 0 || code != 0 || e != api.ErrNone || s.Mem() != nil || s.Locked() != 0 || !s.Idle() || s.Step(api.Act{Kind: api.AcBus}) != api.ErrNone || s.Step(api.Act{}) != api.ErrNone {
 		t.Error("a nil Sys is there")
 	}
 }
